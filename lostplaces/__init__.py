@@ -1,0 +1,1 @@
+"""Letters lost, put in or made wrong at places that nobody knows."""

@@ -1,0 +1,65 @@
+"""The interface: each name in its own file, with the arguments that it must have."""
+
+import ast
+import importlib
+import inspect
+import pathlib
+import unittest
+
+PACKAGE = pathlib.Path(__file__).resolve().parent.parent / "lostplaces"
+
+FUNCTIONS = {
+    "words": """is_whole(thing, low=None, high=None) check_number(thing, low, high)
+        check_letters(letters) power_of(base, exponent) choose_of(many, taken)
+        check_word(letters, word, most=24) word_text(word) word_of_text(letters, text)
+        letter_lost(word, place) letter_put(word, place, letter) turned_word(word)
+        contrary_word(word)""",
+    "runs": """count_runs(word) shape_of(word) lengths_of(word) check_shape(shape, most=24)
+        word_of_runs(shape, lengths)""",
+    "below": """below_words(word, lost) below_count(word, lost)
+        greatest_below(letters, length, lost) below_bounds(runs, lost) below_places(short, long)""",
+    "above": "above_words(letters, word, put) above_count(letters, length, put)",
+    "commons": """common_length(one, other) common_word(one, other) shortest_above(one, other)
+        shortest_fault(one, other, word) come_to(letters, word, lost, put)""",
+}
+CLASSES = {}
+
+
+def split_calls(text):
+    """The name and the argument list of each call in a row of calls."""
+    calls = [part.strip() for part in text.split(")") if part.strip()]
+    return [(call.partition("(")[0], "(" + call.partition("(")[2] + ")") for call in calls]
+
+
+def bodies_of(name):
+    """The statements of a module of the package."""
+    return ast.parse((PACKAGE / f"{name}.py").read_text()).body
+
+
+class Interface(unittest.TestCase):
+    def test_functions(self):
+        for name, text in FUNCTIONS.items():
+            module = importlib.import_module(f"lostplaces.{name}")
+            defined = {part.name for part in bodies_of(name) if isinstance(part, ast.FunctionDef)}
+            for function, arguments in split_calls(text):
+                signature = str(inspect.signature(getattr(module, function)))
+                self.assertEqual(signature, arguments, function)
+                self.assertIn(function, defined)
+
+    def test_classes(self):
+        for name, (arguments, methods) in CLASSES.items():
+            module, _, name = name.partition(".")
+            found = [part for part in bodies_of(module)
+                     if isinstance(part, ast.ClassDef) and part.name == name]
+            self.assertEqual(len(found), 1, name)
+            own = getattr(importlib.import_module(f"lostplaces.{module}"), name)
+            self.assertEqual(str(inspect.signature(own)), arguments, name)
+            bodies = {part.name for part in found[0].body if isinstance(part, ast.FunctionDef)}
+            self.assertIn("__eq__", bodies)
+            for method, method_arguments in split_calls(methods):
+                self.assertIn(method, bodies)
+                self.assertEqual(str(inspect.signature(getattr(own, method))), method_arguments)
+
+
+if __name__ == "__main__":
+    unittest.main()

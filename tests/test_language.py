@@ -1,0 +1,230 @@
+"""The subset of Python: those of its rules that can be seen in the tree of a file."""
+
+import ast
+import builtins
+import pathlib
+import unittest
+
+PACKAGE = pathlib.Path(__file__).resolve().parent.parent / "lostplaces"
+FILES = sorted(PACKAGE.rglob("*.py"))
+LIBRARY = {"math": {"gcd", "lcm", "isqrt", "comb", "perm", "factorial"}}
+BUILTINS = set(
+    "len range enumerate zip min max sum abs sorted reversed int str bool list tuple dict set "
+    "isinstance ord repr any all divmod ValueError property staticmethod".split()
+)
+METHODS = set(
+    "append clear copy count endswith extend find get index insert isdigit items join keys "
+    "partition pop remove replace reverse setdefault split startswith strip update values "
+    "bit_length add discard".split()
+)
+DUNDERS = {"__init__", "__eq__", "__iter__", "__len__"}
+BANNED_NAMES = set(
+    "register mro elements open input law version_info with_traceback add_note attrgetter "
+    "breakpoint compile copyright credits delattr dir eval exec exit gc getattr globals hasattr "
+    "help id importlib license locals methodcaller os quit setattr super type vars sys".split()
+)
+BANNED_WORDS = ("dataclass", "overload", "contextmanager", "typing", "namedtuple", "_wall")
+BANNED_NODES = (
+    ast.Global, ast.AsyncFunctionDef, ast.AsyncFor, ast.AsyncWith, ast.Await, ast.Div, ast.MatMult,
+    ast.Import, ast.Nonlocal, ast.Match,
+)
+
+
+def trees():
+    """Each file of the package with its tree."""
+    return [(file.name, ast.parse(file.read_text())) for file in FILES]
+
+
+def functions_of(tree):
+    """All functions and methods of a tree."""
+    return [node for node in ast.walk(tree) if isinstance(node, ast.FunctionDef)]
+
+
+def docstrings_of(tree):
+    """The constants of a tree that are docstrings."""
+    found = []
+    for node in ast.walk(tree):
+        if isinstance(node, (ast.Module, ast.ClassDef, ast.FunctionDef)) and node.body:
+            first = node.body[0]
+            if isinstance(first, ast.Expr) and isinstance(first.value, ast.Constant):
+                found.append(first.value)
+    return found
+
+
+def bound_names(tree):
+    """All names that a tree assigns or takes as parameters."""
+    names = [node.id for node in ast.walk(tree)
+             if isinstance(node, ast.Name) and not isinstance(node.ctx, ast.Load)]
+    names += [node.arg for node in ast.walk(tree) if isinstance(node, ast.arg)]
+    return names
+
+
+class Files(unittest.TestCase):
+    def test_nothing_but_files_of_python(self):
+        others = [file for file in PACKAGE.rglob("*")
+                  if file.suffix != ".py" and "__pycache__" not in file.parts and file.is_file()]
+        self.assertEqual(others, [])
+
+    def test_sizes_and_characters(self):
+        for file in FILES:
+            text = file.read_text()
+            self.assertTrue(all(" " <= sign <= "~" or sign == "\n" for sign in text), file)
+            rows = text.split("\n")
+            self.assertLessEqual(len(rows), 399, file)
+            self.assertLessEqual(max(map(len, rows)), 120, file)
+            for word in BANNED_WORDS:
+                self.assertNotIn(word, text, file)
+
+    def test_functions_are_small(self):
+        for file, tree in trees():
+            for node in functions_of(tree):
+                self.assertLessEqual(node.end_lineno - node.lineno + 1, 40, (file, node.name))
+
+
+class Imports(unittest.TestCase):
+    def test_from_the_file_that_defines_the_name(self):
+        defined = {}
+        for file, tree in trees():
+            defined["lostplaces." + file[:-3]] = {
+                part.name for part in tree.body if isinstance(part, (ast.FunctionDef, ast.ClassDef))
+            } | {
+                target.id for part in tree.body if isinstance(part, ast.Assign)
+                for target in part.targets
+            }
+        for file, tree in trees():
+            for node in ast.walk(tree):
+                if isinstance(node, ast.ImportFrom):
+                    names = LIBRARY.get(node.module) or defined[node.module]
+                    self.assertEqual(node.level, 0)
+                    for name in node.names:
+                        self.assertIn(name.name, names, file)
+                        self.assertIsNone(name.asname)
+
+    def test_no_circles(self):
+        needs = {
+            "lostplaces." + file[:-3]: [node.module for node in tree.body
+                                        if isinstance(node, ast.ImportFrom)]
+            for file, tree in trees()
+        }
+        done = set(LIBRARY)
+        while len(done) < len(needs) + len(LIBRARY):
+            ready = {name for name in needs if name not in done and done.issuperset(needs[name])}
+            self.assertTrue(ready, "files import from each other")
+            done |= ready
+
+    def test_each_import_is_used(self):
+        for file, tree in trees():
+            used = {node.id for node in ast.walk(tree) if isinstance(node, ast.Name)}
+            for node in tree.body:
+                if isinstance(node, ast.ImportFrom):
+                    for name in node.names:
+                        self.assertIn(name.name, used, file)
+
+
+class Names(unittest.TestCase):
+    def test_no_name_of_a_builtin(self):
+        for file, tree in trees():
+            names = bound_names(tree)
+            names += [node.name for node in ast.walk(tree)
+                      if isinstance(node, (ast.FunctionDef, ast.ClassDef))]
+            for name in names:
+                self.assertNotIn(name, vars(builtins), file)
+                self.assertNotIn(name, BANNED_NAMES, (file, name))
+                self.assertTrue(not name.startswith("__") or name in DUNDERS, (file, name))
+
+    def test_no_variable_has_the_name_of_an_import_a_class_or_a_generator(self):
+        generators = {
+            node.name for _, tree in trees() for node in functions_of(tree)
+            if any(isinstance(part, (ast.Yield, ast.YieldFrom)) for part in ast.walk(node))
+        }
+        for file, tree in trees():
+            taken = {name.name for node in tree.body if isinstance(node, ast.ImportFrom)
+                     for name in node.names}
+            taken |= {node.name for node in tree.body
+                      if isinstance(node, (ast.ClassDef, ast.FunctionDef))}
+            for name in bound_names(tree):
+                self.assertNotIn(name, taken, file)
+                self.assertNotIn(name, generators, file)
+
+    def test_builtins_and_methods(self):
+        methods = {node.name for _, tree in trees() for cls in ast.walk(tree)
+                   if isinstance(cls, ast.ClassDef) for node in functions_of(cls)}
+        for file, tree in trees():
+            for node in ast.walk(tree):
+                if isinstance(node, ast.Name) and node.id in vars(builtins):
+                    self.assertIn(node.id, BUILTINS, file)
+                if isinstance(node, ast.Call) and isinstance(node.func, ast.Attribute):
+                    self.assertIn(node.func.attr, METHODS | methods, file)
+
+
+class Shapes(unittest.TestCase):
+    def test_no_barred_statement_or_sign(self):
+        for file, tree in trees():
+            for node in ast.walk(tree):
+                self.assertNotIsInstance(node, BANNED_NODES, file)
+
+    def test_strings_and_numbers(self):
+        for file, tree in trees():
+            docstrings = docstrings_of(tree)
+            for node in ast.walk(tree):
+                if isinstance(node, ast.Constant):
+                    self.assertNotIsInstance(node.value, (float, complex, bytes), file)
+                    if isinstance(node.value, str) and node not in docstrings:
+                        self.assertNotIn("%", node.value, file)
+                if isinstance(node, ast.BinOp) and isinstance(node.op, ast.Pow):
+                    self.assertIsInstance(node.right, ast.Constant, file)
+                if isinstance(node, ast.Compare):
+                    for sign, right in zip(node.ops, node.comparators):
+                        if isinstance(sign, (ast.Is, ast.IsNot)):
+                            self.assertIsInstance(right, ast.Constant, file)
+
+    def test_no_generator_expressions(self):
+        for file, tree in trees():
+            for node in ast.walk(tree):
+                self.assertNotIsInstance(node, ast.GeneratorExp, (file, getattr(node, "lineno", 0)))
+
+    def test_sets_are_made_where_they_may_be(self):
+        for file, tree in trees():
+            allowed = []
+            for node in ast.walk(tree):
+                if isinstance(node, ast.Call) and isinstance(node.func, ast.Name):
+                    if node.func.id in ("sorted", "len"):
+                        allowed += node.args
+                if isinstance(node, ast.Compare):
+                    allowed += node.comparators + [node.left]
+                if isinstance(node, ast.Assign):
+                    allowed.append(node.value)
+            for node in ast.walk(tree):
+                made = isinstance(node, (ast.Set, ast.SetComp)) or (
+                    isinstance(node, ast.Call) and isinstance(node.func, ast.Name)
+                    and node.func.id == "set")
+                if made:
+                    self.assertIn(node, allowed, (file, node.lineno))
+
+    def test_module_level(self):
+        for file, tree in trees():
+            for node in tree.body:
+                if isinstance(node, ast.Assign):
+                    self.assertEqual(len(node.targets), 1, file)
+                    ast.literal_eval(node.value)
+                elif isinstance(node, ast.Expr):
+                    self.assertIsInstance(node.value, ast.Constant, file)
+                else:
+                    self.assertIsInstance(node, (ast.FunctionDef, ast.ClassDef, ast.ImportFrom), file)
+
+    def test_decorators(self):
+        for file, tree in trees():
+            for node in ast.walk(tree):
+                for part in getattr(node, "decorator_list", []):
+                    self.assertIn(part.id, ("property", "staticmethod"), file)
+
+    def test_each_file_and_function_has_a_docstring(self):
+        for file, tree in trees():
+            self.assertTrue(ast.get_docstring(tree), file)
+            for node in functions_of(tree):
+                if node.name not in DUNDERS:
+                    self.assertTrue(ast.get_docstring(node), (file, node.name))
+
+
+if __name__ == "__main__":
+    unittest.main()
