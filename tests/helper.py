@@ -57,11 +57,11 @@ def table_common(one, other):
 
 
 def numbers(seed):
-    """An endless row of numbers from 0 to 2 ** 31 - 1 that look like chance, always the same."""
+    """An endless row of numbers that look like chance, always the same."""
     state = seed
     while True:
         state = (state * 1103515245 + 12345) % 2 ** 31
-        yield state >> 7
+        yield state >> 16
 
 
 def chance_words(seed, letters, length, many):
@@ -89,3 +89,40 @@ def caught(call, *arguments, **named):
 
 NO_SEQUENCES = (None, 7, "01", {0: 1}, {0, 1}, b"01", True)
 NO_NUMBERS = (None, "1", 1.0, True, False, (1,), [])
+
+
+def every_book(letters, length):
+    """All books of these letters and this length: few only for very small ones."""
+    from lostplaces.books import Book
+    words = every_word(letters, length)
+    return [
+        Book(letters, length, [word for at, word in enumerate(words) if number >> at & 1])
+        for number in range(2 ** len(words))
+    ]
+
+
+def some_books(seed=1):
+    """Small books of several letters and lengths, with none, one and more members."""
+    from lostplaces.books import Book
+    books = every_book(2, 2) + every_book(2, 0) + every_book(3, 1)
+    for letters, length, many in ((2, 3, 3), (2, 4, 4), (2, 5, 5), (3, 3, 4), (4, 3, 3), (2, 6, 3)):
+        for turn in range(6):
+            words = chance_words(seed * 100 + turn * 7 + length, letters, length, many)
+            books.append(Book(letters, length, words))
+    return books
+
+
+def plain_wrong(letters, word, wrong):
+    """All words that differ from the word at no more than so many places."""
+    return {
+        other for other in every_word(letters, len(word))
+        if sum(x != y for x, y in zip(word, other)) <= wrong
+    }
+
+
+def plain_mixed(letters, word, mix):
+    """All words that come of the word by letters lost, then made wrong, then put in."""
+    lost, put, wrong = mix
+    shorter = plain_below(word, lost)
+    changed = {other for short in shorter for other in plain_wrong(letters, short, wrong)}
+    return set().union(*[plain_above(letters, other, put) for other in changed])

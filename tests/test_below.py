@@ -85,6 +85,7 @@ class BelowWords(unittest.TestCase):
         for thing in NO_SEQUENCES + ([0] * 61,):
             self.assertEqual(caught(below_count, thing, None), ("BadWord", -1))
         self.assertEqual(caught(below_words, [0, 1, True], 0), ("BadWord", 2))
+        self.assertEqual(caught(below_words, [3, 4], 0), ("BadWord", 1))
         self.assertEqual(caught(below_count, [0, 4], 99), ("BadWord", 1))
         for bad in (-1, 25) + NO_NUMBERS:
             self.assertEqual(caught(below_words, (0, 1) * 12, bad), ("BadNumber",))
@@ -163,7 +164,8 @@ class Places(unittest.TestCase):
             self.assertEqual(caught(below_places, (), thing), ("BadWord", -1))
         self.assertEqual(caught(below_places, (0, 4), (4,)), ("BadWord", 1))
         self.assertEqual(caught(below_places, (0,), (0, 0, True)), ("BadWord", 2))
-        self.assertEqual(below_places([0] * 24, [0] * 24), tuple(range(1, 25)))
+        self.assertEqual(caught(below_places, (0,), (3, 4)), ("BadWord", 1))
+        self.assertEqual(below_places([3] * 24, [3] * 24), tuple(range(1, 25)))
 
 
 if __name__ == "__main__":

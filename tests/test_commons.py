@@ -71,12 +71,14 @@ class Commons(unittest.TestCase):
                 self.assertEqual(caught(call, (), thing), ("BadWord", -1))
             self.assertEqual(caught(call, (0, 4), (True,)), ("BadWord", 1))
             self.assertEqual(caught(call, (0, 3), (0, 0, True)), ("BadWord", 2))
+            self.assertEqual(caught(call, (0, 3), (0, 3, 4)), ("BadWord", 2))
         for thing in NO_SEQUENCES:
             self.assertEqual(caught(shortest_fault, (), (), thing), ("BadWord", -1))
         self.assertEqual(caught(shortest_fault, [0] * 49, None, None), ("BadWord", -1))
         self.assertEqual(caught(shortest_fault, (), [0] * 49, None), ("BadWord", -1))
         self.assertEqual(caught(shortest_fault, (1,), (), [0] * 97), ("BadWord", -1))
-        self.assertEqual(caught(shortest_fault, (1,), (), [0, 5]), ("BadWord", 1))
+        self.assertEqual(caught(shortest_fault, (1,), (), [3, 4]), ("BadWord", 1))
+        self.assertEqual(caught(shortest_fault, (1,), (3, 4), [3, 4, 5]), ("BadWord", 1))
         self.assertEqual(caught(shortest_fault, (4,), (0, 4), [0, 5]), ("BadWord", 0))
 
     def test_lists_stay_and_tuples_return(self):
@@ -150,6 +152,7 @@ class ComeTo(unittest.TestCase):
         self.assertEqual(caught(come_to, 2, (0, 2), None, None), ("BadWord", 1))
         for bad in (-1, 25) + NO_NUMBERS:
             self.assertEqual(caught(come_to, 2, (0,), bad, None), ("BadNumber",))
+            self.assertEqual(caught(come_to, 2, (0,), bad, 0), ("BadNumber",))
             self.assertEqual(caught(come_to, 2, (0,), 0, bad), ("BadNumber",))
             self.assertEqual(caught(come_to, 2, (0,), 9, bad), ("BadNumber",))
 

@@ -21,8 +21,30 @@ FUNCTIONS = {
     "above": "above_words(letters, word, put) above_count(letters, length, put)",
     "commons": """common_length(one, other) common_word(one, other) shortest_above(one, other)
         shortest_fault(one, other, word) come_to(letters, word, lost, put)""",
+    "books": "check_member(book, word)",
+    "judged": """borne_of(book) bears_lost(book, number) couple_counts(book) near_pair(book, number)
+        pair_fault(book, number, pair) thinned_book(book, number) all_readings(book, word, number)
+        read_by_book(book, word, number)""",
+    "mixes": """check_mix(length, mix) mixed_words(letters, word, mix) comes_by_mix(word, mix, other)
+        least_mix(one, other) book_mix(book) bears_mixes(book, first, second) bears_mix(book, mix)
+        mix_clash(book, first, second=None) mix_fault(book, first, second, clash)""",
+    "booktexts": "book_text(book) book_of_text(text)",
+    "sums": """place_sum(word) lifted_word(word, amount) lowered_word(word, amount) sum_members(book)
+        modulus_clash(length, modulus, rest)""",
+    "readers": """read_lost(book, word) read_put(book, word) read_any(book, word) unread_word(book)
+        place_of_loss(book, word) place_of_put(book, word) near_members(book, word)""",
 }
-CLASSES = {}
+# The arguments of each class, and its methods with theirs.
+CLASSES = {
+    "books.Book": ("(letters, length, words)", """has(self, word) put(self, word)
+        struck(self, word) turned(self) contrary(self) joined(self, other)
+        stretched(self, times) __iter__(self)"""),
+    "judged.NearPair": ("(one, other, below, above)", ""),
+    "judged.Thinned": ("(book, rows)", ""),
+    "mixes.MixClash": ("(one, other, word)", ""),
+    "sums.SumBook": ("(length, modulus, rest)", """has(self, word) turned(self) contrary(self)
+        holding(word, modulus)"""),
+}
 
 
 def split_calls(text):
@@ -59,6 +81,13 @@ class Interface(unittest.TestCase):
             for method, method_arguments in split_calls(methods):
                 self.assertIn(method, bodies)
                 self.assertEqual(str(inspect.signature(getattr(own, method))), method_arguments)
+
+
+    def test_kinds_of_methods(self):
+        from lostplaces.sums import SumBook, sum_members
+        self.assertIsInstance(vars(SumBook)["is_full"], property)
+        self.assertIsInstance(vars(SumBook)["holding"], staticmethod)
+        self.assertTrue(inspect.isgeneratorfunction(sum_members))
 
 
 if __name__ == "__main__":

@@ -10,7 +10,7 @@ FILES = sorted(PACKAGE.rglob("*.py"))
 LIBRARY = {"math": {"gcd", "lcm", "isqrt", "comb", "perm", "factorial"}}
 BUILTINS = set(
     "len range enumerate zip min max sum abs sorted reversed int str bool list tuple dict set "
-    "isinstance ord repr any all divmod ValueError property staticmethod".split()
+    "isinstance ord repr any all divmod iter ValueError property staticmethod".split()
 )
 METHODS = set(
     "append clear copy count endswith extend find get index insert isdigit items join keys "

@@ -14,6 +14,9 @@ class Runs(unittest.TestCase):
         self.assertEqual(shape_of(word), (0, 1, 2, 0))
         self.assertEqual(lengths_of(word), (2, 1, 3, 1))
         self.assertEqual(word, [0, 0, 1, 2, 2, 2, 0])
+        self.assertEqual(count_runs([3, 3]), 1)
+        self.assertEqual(shape_of([3, 3]), (3,))
+        self.assertEqual(lengths_of([3, 3]), (2,))
 
     def test_empty_word(self):
         self.assertEqual(count_runs(()), 0)
@@ -38,7 +41,7 @@ class Runs(unittest.TestCase):
             self.assertEqual(caught(call, [True]), ("BadWord", 0))
 
     def test_bad_shapes(self):
-        for thing in NO_SEQUENCES + ([0, 1] * 13,):
+        for thing in NO_SEQUENCES + ([0, 1] * 12 + [0],):
             self.assertEqual(caught(check_shape, thing), ("BadShape", -1))
             self.assertEqual(caught(word_of_runs, thing, None), ("BadShape", -1))
         self.assertEqual(check_shape([0, 1] * 12), (0, 1) * 12)

@@ -4,8 +4,8 @@ import math
 import unittest
 
 from lostplaces.words import (
-    check_letters, check_number, check_word, choose_of, contrary_word, is_whole, letter_lost,
-    letter_put, power_of, turned_word, word_of_text, word_text,
+    all_words, check_letters, check_number, check_word, choose_of, contrary_word, is_whole, is_word,
+    letter_lost, letter_put, power_of, turned_word, word_of_text, word_text,
 )
 from tests.helper import NO_NUMBERS, NO_SEQUENCES, caught, every_word, every_word_up_to
 
@@ -133,6 +133,8 @@ class Changes(unittest.TestCase):
     def test_put(self):
         self.assertEqual(letter_put([0, 1], 1, 3), (3, 0, 1))
         self.assertEqual(letter_put([0, 1], 3, 2), (0, 1, 2))
+        self.assertEqual(letter_put([3, 1], 2, 2), (3, 2, 1))
+        self.assertEqual(letter_lost([3, 1], 2), (3,))
         self.assertEqual(letter_put([], 1, 0), (0,))
         self.assertEqual(letter_put([0] * 24, 25, 1), (0,) * 24 + (1,))
         for word in every_word_up_to(2, 3):
@@ -144,6 +146,7 @@ class Changes(unittest.TestCase):
             self.assertEqual(caught(letter_lost, (0, 1), place), ("BadNumber",))
         for place in (0, 4, -1) + NO_NUMBERS:
             self.assertEqual(caught(letter_put, (0, 1), place, 9), ("BadNumber",))
+            self.assertEqual(caught(letter_put, (0, 1), place, 0), ("BadNumber",))
         for letter in (-1, 4) + NO_NUMBERS:
             self.assertEqual(caught(letter_put, (0, 1), 1, letter), ("BadNumber",))
         self.assertEqual(caught(letter_lost, (), 1), ("BadNumber",))
@@ -155,6 +158,7 @@ class Changes(unittest.TestCase):
         self.assertEqual(turned_word([0, 1, 3]), (3, 1, 0))
         self.assertEqual(turned_word(()), ())
         self.assertEqual(contrary_word([0, 1, 1]), (1, 0, 0))
+        self.assertEqual(turned_word([3] * 24), (3,) * 24)
         self.assertEqual(contrary_word(()), ())
         for word in every_word(2, 4):
             self.assertEqual(turned_word(turned_word(word)), word)
@@ -173,6 +177,21 @@ class Changes(unittest.TestCase):
                      lambda: turned_word(word), lambda: contrary_word(word)):
             self.assertIsInstance(call(), tuple)
             self.assertEqual(word, [0, 1, 1])
+
+
+class AllWords(unittest.TestCase):
+    """The helpers of the other modules."""
+
+    def test_all_words(self):
+        for letters in (2, 3, 4):
+            for length in range(5):
+                self.assertEqual(all_words(letters, length), every_word(letters, length))
+
+    def test_is_word(self):
+        self.assertIs(is_word(3, 2, [2, 0]), True)
+        self.assertIs(is_word(3, 0, ()), True)
+        for thing in NO_SEQUENCES + ((0,), (0, 0, 0), (0, 3), (-1, 0), (0, True)):
+            self.assertIs(is_word(3, 2, thing), False)
 
 
 if __name__ == "__main__":
