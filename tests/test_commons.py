@@ -3,8 +3,9 @@
 import unittest
 
 from lostplaces.above import above_count
-from lostplaces.below import below_count
+from lostplaces.below import below_count, below_words
 from lostplaces.commons import come_to, common_length, common_word, shortest_above, shortest_fault
+from lostplaces.words import word_of_text
 from tests.helper import (
     NO_NUMBERS, NO_SEQUENCES, caught, chance_words, every_word, every_word_up_to, made_of_tuples,
     plain_above, plain_below, plain_common, plain_is_below, table_common,
@@ -134,6 +135,13 @@ class ComeTo(unittest.TestCase):
         self.assertEqual(caught(come_to, 2, (), 0, 11), ("TooMany", 2048))
         self.assertEqual(caught(come_to, 2, (0, 1) * 12, 2, 1), ("TooMany", 254 * 24))
         self.assertEqual(caught(come_to, 4, (0, 1, 2, 3) * 6, 12, 24)[0], "TooMany")
+
+    def test_just_2000_and_one_more(self):
+        word = word_of_text(3, "0112120012122000211021")
+        self.assertEqual(come_to(3, word, 4, 0), below_words(word, 4))
+        self.assertEqual(len(come_to(3, word, 4, 0)), 2000)
+        word = word_of_text(3, "000220221212022202011")
+        self.assertEqual(caught(come_to, 3, word, 5, 0), ("TooMany", 2001))
 
     def test_the_count_is_a_product_and_no_number_of_unlike_words(self):
         # There are 512 words of 9 letters, but 8 words below and 466 above each.
