@@ -23,7 +23,7 @@ def _words_of_length(letters, word, length):
     begun = [((), 0)]
     for room in range(length - 1, -1, -1):
         longer = []
-        for head, held in begun:
+        for head, held in list(begun):
             for letter in range(letters):
                 more = held
                 if held < len(word) and letter == word[held]:

@@ -26,7 +26,7 @@ def _words_of_length(word, length):
     begun = [((), 0)]
     for done in range(length):
         longer = []
-        for head, start in begun:
+        for head, start in list(begun):
             for letter in range(4):
                 behind = place_behind(word, letter, start)
                 if behind is not None and len(word) - behind >= length - done - 1:

@@ -157,6 +157,115 @@ class Names(unittest.TestCase):
                     self.assertIn(node.func.attr, METHODS | methods, file)
 
 
+CHANGING = set(
+    "append clear extend insert pop remove reverse setdefault update add discard".split()
+)
+WALKED_THROUGH = {"enumerate", "zip", "reversed", "items", "keys", "values"}
+
+
+def names_in(node):
+    """The names that a target or a value gives or takes straight, also in a tuple or a choice."""
+    if isinstance(node, ast.Name):
+        return [node.id]
+    if isinstance(node, (ast.Tuple, ast.List)):
+        return [name for part in node.elts for name in names_in(part)]
+    if isinstance(node, ast.IfExp):
+        return names_in(node.body) + names_in(node.orelse)
+    if isinstance(node, ast.BoolOp):
+        return [name for part in node.values for name in names_in(part)]
+    return []
+
+
+def one_list(function):
+    """For each name of a function all names that assignments may give the same list."""
+    same = {}
+    for node in ast.walk(function):
+        if isinstance(node, ast.Assign):
+            names = names_in(node.value) + [name for part in node.targets for name in names_in(part)]
+            group = set(names).union(*[same.get(name, set()) for name in names])
+            for name in group:
+                same[name] = group
+    return same
+
+
+def walked_names(node):
+    """The names of the lists that a loop over this value walks."""
+    if isinstance(node, ast.Call):
+        called = node.func
+        if isinstance(called, ast.Attribute) and called.attr in WALKED_THROUGH:
+            return names_in(called.value)
+        if isinstance(called, ast.Name) and called.id in WALKED_THROUGH:
+            return [name for part in node.args for name in walked_names(part)]
+        return []
+    if isinstance(node, ast.Attribute):
+        return [node.attr]
+    return names_in(node)
+
+
+def held_name(node):
+    """The name or the field that an item or a method belongs to."""
+    while isinstance(node, ast.Subscript):
+        node = node.value
+    return node.attr if isinstance(node, ast.Attribute) else getattr(node, "id", None)
+
+
+def changed_names(rows):
+    """The names and fields whose lists these rows change."""
+    changed = set()
+    for row in rows:
+        for node in ast.walk(row):
+            if isinstance(node, ast.Subscript) and not isinstance(node.ctx, ast.Load):
+                changed.add(held_name(node))
+            if isinstance(node, ast.AugAssign):
+                changed.add(held_name(node.target))
+            if isinstance(node, ast.Call) and isinstance(node.func, ast.Attribute):
+                if node.func.attr in CHANGING:
+                    changed.add(held_name(node.func.value))
+    return changed
+
+
+def changed_while_walked(function):
+    """The names that a loop of the function walks and changes, under one name or another."""
+    same = one_list(function)
+    found = set()
+    for node in ast.walk(function):
+        if isinstance(node, ast.For):
+            walked = walked_names(node.iter)
+            walked += [other for name in walked for other in same.get(name, ())]
+            found |= changed_names(node.body) & set(walked)
+    return found
+
+
+class Loops(unittest.TestCase):
+    """What a loop walks is not changed in it."""
+
+    def test_no_file_changes_what_it_walks(self):
+        for file, tree in trees():
+            for node in functions_of(tree):
+                self.assertEqual(changed_while_walked(node), set(), (file, node.name))
+
+    def test_the_check_sees_what_it_should(self):
+        wrong = (
+            "for x in xs:\n  xs.append(x)",
+            "for x in xs:\n  ys.append(x)\n xs = ys",
+            "for k, x in enumerate(xs):\n  if x:\n   ys[k] += x\n xs = ys",
+            "for x in self.xs:\n  self.xs.pop()",
+            "for x, y in zip(zs, xs if c else zs):\n  xs[0] = y",
+            "a, xs = b, ys\n for x in xs:\n  ys[0].append(x)",
+        )
+        right = (
+            "for x in list(xs):\n  ys.append(x)\n xs = ys",
+            "for x in xs:\n  ys.append(x)",
+            "for k in range(3):\n  xs[k] = 1",
+        )
+        for rows in wrong:
+            tree = ast.parse(f"def f():\n {rows}")
+            self.assertNotEqual(changed_while_walked(tree.body[0]), set(), rows)
+        for rows in right:
+            tree = ast.parse(f"def f():\n {rows}")
+            self.assertEqual(changed_while_walked(tree.body[0]), set(), rows)
+
+
 class Shapes(unittest.TestCase):
     def test_no_barred_statement_or_sign(self):
         for file, tree in trees():
