@@ -33,6 +33,17 @@ FUNCTIONS = {
         modulus_clash(length, modulus, rest)""",
     "readers": """read_lost(book, word) read_put(book, word) read_any(book, word) unread_word(book)
         place_of_loss(book, word) place_of_put(book, word) near_members(book, word)""",
+    "perfects": """shares_of(book) book_of_sums(book) members_above(book, word) uneven_word(book)
+        is_perfect(book) perfect_books(letters, length)""",
+    "divisors": """divisors_of(number) phi_of(number) mu_of(number) common_divisor(one, other)
+        odd_part(number) ram_of(number, rest)""",
+    "sizes": """size_of(length, rest) size_by_ones(length, rest, ones)
+        size_by_table(length, modulus, rest) book_sizes(length) extremes_of(length)""",
+    "rings": """rotations_of(word) least_rotation(word) repeats_of(word) odd_rings(length)
+        single_rings(length) rings_for(length, rest)""",
+    "numbering": "count_from(book, head) member_at(book, number) number_of(book, word)",
+    "wrongs": """wrong_members(book) head_book(book) checked_word(book, head) read_wrong(book, word)
+        wrong_place(book, word) rests_that_read(length, word) wrong_clash(length, modulus)""",
 }
 # The arguments of each class, and its methods with theirs.
 CLASSES = {
@@ -44,7 +55,18 @@ CLASSES = {
     "mixes.MixClash": ("(one, other, word)", ""),
     "sums.SumBook": ("(length, modulus, rest)", """has(self, word) turned(self) contrary(self)
         holding(word, modulus)"""),
+    "perfects.Uneven": ("(word, above)", ""),
+    "wrongs.Read": ("(what, member)", ""),
+    "wrongs.WrongBook": ("(length, rest)", "has(self, word) contrary(self) holding(word)"),
 }
+STATIC = ("sums.SumBook", "wrongs.WrongBook")
+GENERATORS = "sums.sum_members perfects.shares_of perfects.perfect_books wrongs.wrong_members".split()
+
+
+def thing_of(name):
+    """The class or function with a name such as sums.SumBook."""
+    module, _, name = name.partition(".")
+    return getattr(importlib.import_module(f"lostplaces.{module}"), name)
 
 
 def split_calls(text):
@@ -82,12 +104,12 @@ class Interface(unittest.TestCase):
                 self.assertIn(method, bodies)
                 self.assertEqual(str(inspect.signature(getattr(own, method))), method_arguments)
 
-
-    def test_kinds_of_methods(self):
-        from lostplaces.sums import SumBook, sum_members
-        self.assertIsInstance(vars(SumBook)["is_full"], property)
-        self.assertIsInstance(vars(SumBook)["holding"], staticmethod)
-        self.assertTrue(inspect.isgeneratorfunction(sum_members))
+    def test_kinds(self):
+        self.assertIsInstance(vars(thing_of("sums.SumBook"))["is_full"], property)
+        for name in STATIC:
+            self.assertIsInstance(vars(thing_of(name))["holding"], staticmethod)
+        for name in GENERATORS:
+            self.assertTrue(inspect.isgeneratorfunction(thing_of(name)))
 
 
 if __name__ == "__main__":

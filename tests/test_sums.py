@@ -8,13 +8,8 @@ from lostplaces.sums import (
 )
 from tests.helper import (
     NO_NUMBERS, NO_SEQUENCES, caught, chance_words, every_word, every_word_up_to, made_of_tuples,
-    plain_above, plain_below, plain_is_below,
+    plain_above, plain_below, plain_is_below, plain_sum,
 )
-
-
-def plain_sum(word):
-    """The place sum by its definition."""
-    return sum(place for place, letter in enumerate(word, 1) if letter == 1)
 
 
 class PlaceSums(unittest.TestCase):
