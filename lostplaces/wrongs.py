@@ -130,9 +130,6 @@ def wrong_place(book, word):
 def rests_that_read(length, word):
     """Return all rests, ascending, in whose wrong book of this length the word reads."""
     check_number(length, 1, MOST_LENGTH)
-    word = check_word(2, word, MOST_HERE)
-    if abs(len(word) - length) > 1:
-        raise NotOneOff()
     return tuple([
         rest for rest in range(2 * length) if read_wrong(WrongBook(length, rest), word) is not None
     ])

@@ -88,7 +88,8 @@ class Ram(unittest.TestCase):
 
     def test_errors(self):
         for bad in (0, -1, 2001) + NO_NUMBERS:
-            self.assertEqual(caught(ram_of, bad, None), ("BadNumber",))
+            for rest in (None, 0, 1):
+                self.assertEqual(caught(ram_of, bad, rest), ("BadNumber",))
         for bad in (-1, 2001) + NO_NUMBERS:
             self.assertEqual(caught(ram_of, 1, bad), ("BadNumber",))
 

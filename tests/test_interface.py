@@ -44,6 +44,21 @@ FUNCTIONS = {
     "numbering": "count_from(book, head) member_at(book, number) number_of(book, word)",
     "wrongs": """wrong_members(book) head_book(book) checked_word(book, head) read_wrong(book, word)
         wrong_place(book, word) rests_that_read(length, word) wrong_clash(length, modulus)""",
+    "rises": "rises_of(word) rise_word(word) rise_sum(word)",
+    "manysizes": "many_size_of(letters, length, rest, total) size_rows(letters, length)",
+    "manyletters": """many_members(book) fullest_book(letters, length) many_rings(book)
+        lost_letter(book, word) read_many_lost(book, word) read_many_put(book, word)
+        couples_that_read(letters, length, word)""",
+    "weights": """check_weights(weights) steep_by(letters, weights)
+        steep_modulus(letters, weights, lost) weights_for(letters, lost, length)
+        weight_members(book) rest_sizes(letters, weights, modulus) weight_size(book)
+        richest_rest(letters, weights, modulus)""",
+    "severals": """members_behind(book, word, lost, put) read_several(book, word, lost, put)
+        close_couple(letters, weights, modulus, lost)""",
+    "orders": """check_row(length, row, many) order_rises(row) order_total(row)
+        turned_order(order) contrary_order(order) lacking_member(length, row)
+        row_without(order, member) order_with(length, row, place) places_tried(length, row)
+        moves_apart(one, other) count_by_rises(word) total_spread(length)""",
 }
 # The arguments of each class, and its methods with theirs.
 CLASSES = {
@@ -58,9 +73,14 @@ CLASSES = {
     "perfects.Uneven": ("(word, above)", ""),
     "wrongs.Read": ("(what, member)", ""),
     "wrongs.WrongBook": ("(length, rest)", "has(self, word) contrary(self) holding(word)"),
+    "manyletters.ManyBook": ("(letters, length, rest, total)", """has(self, word) mirrored(self)
+        holding(letters, word)"""),
+    "weights.WeightBook": ("(letters, weights, modulus, rest)", "has(self, word)"),
+    "severals.TooClose": ("(one, other)", ""),
 }
-STATIC = ("sums.SumBook", "wrongs.WrongBook")
-GENERATORS = "sums.sum_members perfects.shares_of perfects.perfect_books wrongs.wrong_members".split()
+STATIC = ("sums.SumBook", "wrongs.WrongBook", "manyletters.ManyBook")
+GENERATORS = """sums.sum_members perfects.shares_of perfects.perfect_books wrongs.wrong_members
+    manyletters.many_members weights.weight_members""".split()
 
 
 def thing_of(name):

@@ -75,6 +75,13 @@ class Books(unittest.TestCase):
         for length in (0, 3, 5, 61):
             self.assertIs(WrongBook(4, 0).has([0] * length), False)
 
+    def test_words_of_has(self):
+        book = WrongBook(4, 5)
+        for thing in NO_SEQUENCES + ([0] * 62,):
+            self.assertEqual(caught(book.has, thing), ("BadWord", -1))
+        self.assertEqual(caught(book.has, [0, 2]), ("BadWord", 1))
+        self.assertEqual(caught(book.has, [0, 1, 1, True]), ("BadWord", 3))
+
     def test_contrary(self):
         for book in BOOKS:
             turned = sorted(tuple(1 - letter for letter in word) for word in plain_members(book))
