@@ -49,6 +49,11 @@ def word_of_runs(shape, lengths):
             raise BadLengths(index)
     if sum(lengths) > MOST_LETTERS:
         raise BadLengths(-1)
+    return spelled_runs(shape, lengths)
+
+
+def spelled_runs(shape, lengths):
+    """The word with this shape and these lengths, of any length and without checks."""
     word = []
     for letter, length in zip(shape, lengths):
         word.extend([letter] * length)

@@ -59,6 +59,18 @@ FUNCTIONS = {
         turned_order(order) contrary_order(order) lacking_member(length, row)
         row_without(order, member) order_with(length, row, place) places_tried(length, row)
         moves_apart(one, other) count_by_rises(word) total_spread(length)""",
+    "orderbooks": """order_members(book) order_size(book) read_row(book, row)
+        near_orders(book, order) order_for(book, number) number_for(book, order)""",
+    "doubles": """double_run(word, run) swallow_run(word, run) doubled_words(word, times)
+        swallowed_words(word, times) doubled_count(runs, times) swallowed_count(word, times)
+        run_steps(one, other) runs_borne(book) bears_runs(book, number) runs_pair(book, number)""",
+    "runbooks": """run_book(shape, length, rest) length_members(book) members_near(book, word)
+        sums_clash(weights, modulus, number) run_size(length, runs, rest) length_size(book)""",
+    "units": """unit_of(units, member) doubtful_piece(units) room_taken(units)
+        written_row(units, members, losses)""",
+    "restwords": "rest_web(units)",
+    "cuttings": """cuts_told(units) clash_fault(units, clash) ends_told(units)
+        ends_fault(units, cuts) count_cuttings(units, row) cut_row(units, row) sure_mark(book)""",
 }
 # The arguments of each class, and its methods with theirs.
 CLASSES = {
@@ -77,10 +89,22 @@ CLASSES = {
         holding(letters, word)"""),
     "weights.WeightBook": ("(letters, weights, modulus, rest)", "has(self, word)"),
     "severals.TooClose": ("(one, other)", ""),
+    "orderbooks.OrderBook": ("(length, modulus, rest)", "has(self, row)"),
+    "doubles.RunPair": ("(one, other, apart, longer, shorter)", ""),
+    "runbooks.LengthBook": ("(shape, length, weights, modulus, rest)", "has(self, word)"),
+    "runbooks.SumsClash": ("(one, other)", ""),
+    "units.Units": ("(book, mark)", ""),
+    "restwords.Web": ("(starts, rests, steps)", ""),
+    "cuttings.Told": ("(wait, first, second)", ""),
+    "cuttings.Clash": ("(first, second)", ""),
+    "cuttings.TwoCuts": ("(first, second)", ""),
 }
+# The two classes whose objects change have no likeness.
+CHANGING = ("streams.Stream", "bench.Bench")
 STATIC = ("sums.SumBook", "wrongs.WrongBook", "manyletters.ManyBook")
 GENERATORS = """sums.sum_members perfects.shares_of perfects.perfect_books wrongs.wrong_members
-    manyletters.many_members weights.weight_members""".split()
+    manyletters.many_members weights.weight_members orderbooks.order_members
+    runbooks.length_members""".split()
 
 
 def thing_of(name):
@@ -101,6 +125,10 @@ def bodies_of(name):
 
 
 class Interface(unittest.TestCase):
+    def test_each_file_is_listed(self):
+        files = {file.stem for file in PACKAGE.glob("*.py")}
+        self.assertEqual(files, set(FUNCTIONS) | {"__init__", "errors"})
+
     def test_functions(self):
         for name, text in FUNCTIONS.items():
             module = importlib.import_module(f"lostplaces.{name}")
@@ -111,15 +139,15 @@ class Interface(unittest.TestCase):
                 self.assertIn(function, defined)
 
     def test_classes(self):
-        for name, (arguments, methods) in CLASSES.items():
-            module, _, name = name.partition(".")
+        for full_name, (arguments, methods) in CLASSES.items():
+            module, _, name = full_name.partition(".")
             found = [part for part in bodies_of(module)
                      if isinstance(part, ast.ClassDef) and part.name == name]
             self.assertEqual(len(found), 1, name)
             own = getattr(importlib.import_module(f"lostplaces.{module}"), name)
             self.assertEqual(str(inspect.signature(own)), arguments, name)
             bodies = {part.name for part in found[0].body if isinstance(part, ast.FunctionDef)}
-            self.assertIn("__eq__", bodies)
+            self.assertEqual("__eq__" in bodies, full_name not in CHANGING, name)
             for method, method_arguments in split_calls(methods):
                 self.assertIn(method, bodies)
                 self.assertEqual(str(inspect.signature(getattr(own, method))), method_arguments)

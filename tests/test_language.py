@@ -266,6 +266,32 @@ class Loops(unittest.TestCase):
             self.assertEqual(changed_while_walked(tree.body[0]), set(), rows)
 
 
+def kept_sets(function):
+    """The names of a function that are assigned a set."""
+    return {
+        node.targets[0].id for node in ast.walk(function)
+        if isinstance(node, ast.Assign) and isinstance(node.targets[0], ast.Name) and (
+            isinstance(node.value, (ast.Set, ast.SetComp)) or (
+                isinstance(node.value, ast.Call) and getattr(node.value.func, "id", "") == "set"))
+    }
+
+
+def allowed_uses(function, name):
+    """The places where the name of a kept set may stand; it is assigned just once."""
+    fine = [part for node in ast.walk(function) if isinstance(node, ast.Assign)
+            for part in node.targets if getattr(part, "id", "") == name][:1]
+    for node in ast.walk(function):
+        if isinstance(node, ast.Call):
+            called = node.func
+            if isinstance(called, ast.Attribute) and called.attr in ("add", "discard"):
+                fine.append(called.value)
+            if isinstance(called, ast.Name) and called.id in ("len", "sorted"):
+                fine += node.args
+        if isinstance(node, ast.Compare) and isinstance(node.ops[0], (ast.In, ast.NotIn)):
+            fine += node.comparators
+    return fine
+
+
 class Shapes(unittest.TestCase):
     def test_no_barred_statement_or_sign(self):
         for file, tree in trees():
@@ -326,6 +352,58 @@ class Shapes(unittest.TestCase):
             for node in ast.walk(tree):
                 for part in getattr(node, "decorator_list", []):
                     self.assertIn(part.id, ("property", "staticmethod"), file)
+
+    def test_an_underscore_is_never_read(self):
+        for file, tree in trees():
+            for node in ast.walk(tree):
+                if isinstance(node, ast.Name) and node.id == "_":
+                    self.assertIsInstance(node.ctx, ast.Store, (file, node.lineno))
+
+    def test_errors_are_own_ones_by_name(self):
+        own = {cls.name for cls in ast.walk(dict(trees())["errors.py"])
+               if isinstance(cls, ast.ClassDef)}
+        for file, tree in trees():
+            for node in ast.walk(tree):
+                if isinstance(node, ast.ExceptHandler):
+                    self.assertIn(node.type.id, own, file)
+                    self.assertIsNone(node.name, file)
+                if isinstance(node, ast.Raise):
+                    self.assertIn(node.exc.func.id, own, file)
+                if isinstance(node, ast.Try):
+                    self.assertEqual((node.finalbody, node.orelse), ([], []), file)
+
+    def test_keywords_of_builtins(self):
+        allowed = {"sorted": {"key", "reverse"}, "min": {"key", "default"},
+                   "max": {"key", "default"}, "enumerate": {"start"}, "sum": {"start"}}
+        for file, tree in trees():
+            for node in ast.walk(tree):
+                if isinstance(node, ast.Call):
+                    named = {part.arg for part in node.keywords}
+                    if isinstance(node.func, ast.Attribute):
+                        self.assertEqual(named, set(), (file, node.lineno))
+                    elif node.func.id in vars(builtins):
+                        self.assertLessEqual(named, allowed.get(node.func.id, set()), file)
+
+    def test_no_name_is_a_method_and_an_attribute(self):
+        methods, assigned, read = set(), set(), set()
+        for _, tree in trees():
+            for node in ast.walk(tree):
+                if isinstance(node, ast.ClassDef):
+                    methods |= {part.name for part in functions_of(node)}
+                if isinstance(node, ast.Attribute):
+                    (read if isinstance(node.ctx, ast.Load) else assigned).add(node.attr)
+        self.assertEqual(methods & assigned, set())
+        self.assertEqual(read - assigned - methods - METHODS, set())
+
+    def test_kept_sets_are_used_as_they_may_be(self):
+        for file, tree in trees():
+            for function in functions_of(tree):
+                for name in kept_sets(function):
+                    uses = [node for node in ast.walk(function)
+                            if isinstance(node, ast.Name) and node.id == name]
+                    fine = allowed_uses(function, name)
+                    self.assertEqual([node.lineno for node in uses if node not in fine], [],
+                                     (file, function.name, name))
 
     def test_each_file_and_function_has_a_docstring(self):
         for file, tree in trees():
