@@ -71,6 +71,15 @@ FUNCTIONS = {
     "restwords": "rest_web(units)",
     "cuttings": """cuts_told(units) clash_fault(units, clash) ends_told(units)
         ends_fault(units, cuts) count_cuttings(units, row) cut_row(units, row) sure_mark(book)""",
+    "streams": "",
+    "datas": """free_places(length, *, wrong=False) data_word(length, rest, bits, *, wrong=False)
+        data_of(word, *, wrong=False)""",
+    "bests": """clash_ties(letters, length, lost) best_books(letters, length, lost)
+        filled_book(book, number)""",
+    "edits": "edited_units(units, edits)",
+    "mends": """goal_met(units, goal) find_mends(units, edits, goals)
+        find_spoilers(units, edits, goals)""",
+    "bench": "",
 }
 # The arguments of each class, and its methods with theirs.
 CLASSES = {
@@ -98,6 +107,11 @@ CLASSES = {
     "cuttings.Told": ("(wait, first, second)", ""),
     "cuttings.Clash": ("(first, second)", ""),
     "cuttings.TwoCuts": ("(first, second)", ""),
+    "streams.Stream": ("(units)", "hear(self, letter) finish(self)"),
+    "bests.Best": ("(number, book)", ""),
+    "bench.Bench": ("(units)", """do_edit(self, edit) do_fill(self, number) take_back(self)
+        trial(self, edits, *, goal=None) __len__(self)"""),
+    "bench.Tried": ("(many, borne, runs, told, met)", ""),
 }
 # The two classes whose objects change have no likeness.
 CHANGING = ("streams.Stream", "bench.Bench")
@@ -154,6 +168,7 @@ class Interface(unittest.TestCase):
 
     def test_kinds(self):
         self.assertIsInstance(vars(thing_of("sums.SumBook"))["is_full"], property)
+        self.assertIsInstance(vars(thing_of("bench.Bench"))["log"], property)
         for name in STATIC:
             self.assertIsInstance(vars(thing_of(name))["holding"], staticmethod)
         for name in GENERATORS:
